@@ -1,0 +1,1 @@
+"""Papers set from a bank of questions: plans, clashes, the nearest paper."""
