@@ -1,1 +1,1 @@
-"""Papers set from a bank of questions: plans, clashes, the nearest paper."""
+"""Papers set from a bank of questions: plans, clashes, twins, the nearest paper, use over years."""

@@ -1,28 +1,32 @@
 """The calls on a bank of questions, laid out in one list of whole numbers."""
 
-from paperbank.demands import holds_for
+from paperbank.demands import as_line, holds_for
 from paperbank.plans import read_plan
-from paperbank.search import apart, fewest_clashing, good_papers, in_all, in_none, nearest
-from paperbank.state import Bank, Question, all_with_leave, are_enemies, is_paper, is_question
-from paperbank.state import pair_of, with_leave, without_enemies
+from paperbank.scores import closest_twins, marks_of, marks_on, mean_hardness, minutes_of
+from paperbank.scores import nearest_in_hardness, questions_of, topics_of
+from paperbank.search import apart, fewest_clashing, first_good, good_papers, in_all, in_none, lasting, nearest
+from paperbank.state import Bank, Question, all_with_leave, are_enemies, enemies_of, has_leave, is_paper
+from paperbank.state import is_question, pair_of, too_many_to_search, use_paper, with_leave, without_enemies
 
-NO_CALL = -9
 TOO_MANY = -8
 TOO_LATE = -7
 BANK_FULL = -6
+NOT_GOOD = -5
 NO_PAPER = -4
 ALREADY = -3
 NOT_AS_TOLD = -1
 WRONG_PLAN = -1000
 
 MOST_QUESTIONS = 20
-MOST_SEARCHED = 12
+MOST_TWINS = 300
 MOST_BYTES = 1000
 LAST_YEAR = 200
 
 ITEM_RANGES = ((0, 11), (0, 5), (0, 4), (1, 200), (1, 300))
 LEAVE_RANGES = ((0, 50), (1, 99))
 YEAR_RANGES = ((1, 100),)
+HARDEST_RANGES = ((0, 4000), (1, 1000))
+LASTS_RANGES = ((1, 8),)
 
 # For each call of the document how many whole numbers it has, and how many lists.
 LAYOUTS = (
@@ -44,8 +48,10 @@ def as_number(truth):
     return 1 if truth else 0
 
 
-def too_many_to_search(bank):
-    return len(with_leave(bank)) > MOST_SEARCHED
+# A paper is good if all of these are so: no enemies, all with leave, then each demand.
+def verdicts_on(bank, paper):
+    told = [without_enemies(bank, paper), all_with_leave(bank, paper)]
+    return told + [holds_for(demand, bank.questions, paper) for demand in bank.demands]
 
 
 def add_item(bank, numbers, row):
@@ -98,8 +104,7 @@ def pass_years(bank, numbers, row):
 def tell_meets(bank, numbers, row):
     if not is_paper(bank, row):
         return [NOT_AS_TOLD]
-    told = [without_enemies(bank, row), all_with_leave(bank, row)]
-    told = told + [holds_for(demand, bank.questions, row) for demand in bank.demands]
+    told = verdicts_on(bank, row)
     return [0, as_number(all(told))] + [as_number(truth) for truth in told]
 
 
@@ -112,10 +117,10 @@ def tell_count(bank, numbers, row):
 def tell_first(bank, numbers, row):
     if too_many_to_search(bank):
         return [TOO_MANY]
-    papers = good_papers(bank)
-    if len(papers) == 0:
+    paper = first_good(bank)
+    if paper is None:
         return [0, 0]
-    return [0, 1] + with_length(papers[0])
+    return [0, 1] + with_length(paper)
 
 
 def tell_clash(bank, numbers, row):
@@ -151,16 +156,108 @@ def tell_near(bank, numbers, row):
     return [0, apart(best, row)] + with_length(best)
 
 
-# The calls that there are so far, each at its number.
+def tell_twins(bank, numbers, row):
+    if too_many_to_search(bank):
+        return [TOO_MANY]
+    papers = good_papers(bank)
+    if len(papers) > MOST_TWINS:
+        return [TOO_MANY]
+    twins = closest_twins(bank, papers)
+    if twins is None:
+        return [NO_PAPER]
+    return [0, twins[0]] + with_length(twins[1]) + with_length(twins[2])
+
+
+def use_good_paper(bank, numbers, row):
+    if not is_paper(bank, row):
+        return [NOT_AS_TOLD]
+    if not all(verdicts_on(bank, row)):
+        return [NOT_GOOD]
+    use_paper(bank, row)
+    return [0, len(row)]
+
+
+def tell_shown(bank, numbers, row):
+    text = "".join([as_line(demand) + "\n" for demand in bank.demands])
+    return [0] + with_length([ord(sign) for sign in text])
+
+
+def tell_about(bank, numbers, row):
+    if not is_question(bank, numbers[0]):
+        return [NOT_AS_TOLD]
+    question = bank.questions[numbers[0]]
+    told = [question.topic, question.kind, question.hardness, question.marks, question.minutes]
+    told.append(as_number(question.withdrawn))
+    told.append(as_number(has_leave(bank, question)))
+    return [0] + told + with_length(question.years) + with_length(enemies_of(bank, numbers[0]))
+
+
+def tell_score(bank, numbers, row):
+    if not is_paper(bank, row):
+        return [NOT_AS_TOLD]
+    questions = questions_of(bank, row)
+    topics = topics_of(bank.questions)
+    told = [0, marks_of(questions), minutes_of(questions)] + list(mean_hardness(questions)) + [len(topics)]
+    for topic in topics:
+        told.extend([topic, marks_on(topic, questions)])
+    return told
+
+
+def tell_hardest(bank, numbers, row):
+    if not in_ranges(numbers, HARDEST_RANGES):
+        return [NOT_AS_TOLD]
+    if too_many_to_search(bank):
+        return [TOO_MANY]
+    paper = nearest_in_hardness(bank, good_papers(bank), numbers[0], numbers[1])
+    if paper is None:
+        return [NO_PAPER]
+    return [0] + list(mean_hardness(questions_of(bank, paper))) + with_length(paper)
+
+
+def withdraw_question(bank, numbers, row):
+    if not is_question(bank, numbers[0]):
+        return [NOT_AS_TOLD]
+    question = bank.questions[numbers[0]]
+    if question.withdrawn:
+        return [ALREADY]
+    question.withdrawn = True
+    return [0]
+
+
+def tell_nth(bank, numbers, row):
+    place = numbers[0]
+    if place < 0:
+        return [NOT_AS_TOLD]
+    if too_many_to_search(bank):
+        return [TOO_MANY]
+    papers = good_papers(bank)
+    if place >= len(papers):
+        return [NO_PAPER]
+    return [0] + with_length(papers[place])
+
+
+def tell_lasts(bank, numbers, row):
+    if not in_ranges(numbers, LASTS_RANGES):
+        return [NOT_AS_TOLD]
+    if too_many_to_search(bank):
+        return [TOO_MANY]
+    return [0, lasting(bank, numbers[0])]
+
+
+def tell_told(bank, numbers, row):
+    sizes = [len(bank.questions), len(bank.enemies), len(bank.demands)]
+    return [0] + sizes + [bank.gap, bank.most, bank.year] + with_length(with_leave(bank))
+
+
+# The calls, each at its number.
 HANDLERS = (
-    add_item, add_enemies, set_plan, set_leave, pass_years, tell_meets,
-    tell_count, tell_first, tell_clash, tell_must, tell_near,
+    add_item, add_enemies, set_plan, set_leave, pass_years, tell_meets, tell_count,
+    tell_first, tell_clash, tell_must, tell_near, tell_twins, use_good_paper, tell_shown,
+    tell_about, tell_score, tell_hardest, withdraw_question, tell_nth, tell_lasts, tell_told,
 )
 
 
 def answer_call(bank, number, numbers, row):
-    if number >= len(HANDLERS):
-        return [NO_CALL]
     handler = HANDLERS[number]
     return handler(bank, numbers, row)
 

@@ -1,4 +1,4 @@
-"""The demands of a plan, and when one holds.
+"""The demands of a plan: when one holds, and how it is told as a line.
 
 A demand is judged from three sums over a paper's questions, so that one
 paper and all the papers of a search are judged by the same words.
@@ -70,3 +70,21 @@ def holds_for(demand, questions, paper):
     second = sum([share[1] for share in added])
     both = sum([share[2] for share in added])
     return holds(demand, first, second, both)
+
+
+def sel_words(sel):
+    word = sel[0]
+    number = sel[1]
+    return word if word == "all" else f"{word} {number}"
+
+
+def as_line(demand):
+    word = demand.word
+    first = sel_words(demand.first)
+    if demand.second is None:
+        low = demand.low
+        high = demand.high
+        return f"{first} {word} {low} to {high}"
+    second = sel_words(demand.second)
+    middle = "then" if word == "if" else "with"
+    return f"{word} {first} {middle} {second}"

@@ -1,4 +1,4 @@
-"""All papers of the questions with leave: the good ones, the clash, the nearest.
+"""All papers of the questions with leave: the good ones, the clash, the nearest, how long they last.
 
 The lists here run side by side: what stands at place k belongs to the set
 that has the member at each bit of k. At most 12 questions have leave where
@@ -6,7 +6,7 @@ a search is made, so no list is longer than 4096.
 """
 
 from paperbank.demands import holds, shares
-from paperbank.state import are_enemies, with_leave
+from paperbank.state import are_enemies, copy_of_bank, too_many_to_search, use_paper, with_leave
 
 
 def subsets(members):
@@ -23,8 +23,12 @@ def subset_sums(values):
     return sums
 
 
+def place_in_order(subset):
+    return (len(subset), subset)
+
+
 def in_order(found):
-    return sorted(found, key=lambda subset: (len(subset), subset))
+    return sorted(found, key=place_in_order)
 
 
 def foes_ahead(bank, candidates, place):
@@ -53,14 +57,23 @@ def verdicts(bank, candidates, demand):
     return [holds(demand, first, second, both) for first, second, both in zip(firsts, seconds, boths)]
 
 
-# All good papers, in the papers' order.
-def good_papers(bank):
+def good_in_any_order(bank):
     candidates = with_leave(bank)
     good = peaceful(bank, candidates)
     for demand in bank.demands:
         held = verdicts(bank, candidates, demand)
         good = [so_far and now for so_far, now in zip(good, held)]
-    return in_order([paper for paper, is_good in zip(subsets(candidates), good) if is_good])
+    return [paper for paper, is_good in zip(subsets(candidates), good) if is_good]
+
+
+# All good papers, in the papers' order.
+def good_papers(bank):
+    return in_order(good_in_any_order(bank))
+
+
+# The first good paper, or None where there's none.
+def first_good(bank):
+    return min(good_in_any_order(bank), key=place_in_order, default=None)
 
 
 # The sets of demands, as bits, that are just what some paper without enemies, all with leave, meets.
@@ -113,3 +126,23 @@ def apart(one, other):
 # The papers come in their order, and min gives the first of equals.
 def nearest(papers, wanted):
     return min(papers, key=lambda paper: apart(paper, wanted))
+
+
+# How many papers could be used, one a year from this year on, each time the first good one.
+def lasting(bank, at_most):
+    trial = copy_of_bank(bank)
+    # The plan and the enemies stay, so who has leave settles which paper is the first.
+    firsts = {}
+    used = 0
+    while used < at_most and not too_many_to_search(trial):
+        candidates = tuple(with_leave(trial))
+        if candidates not in firsts:
+            firsts[candidates] = first_good(trial)
+        paper = firsts[candidates]
+        if paper is None:
+            break
+        use_paper(trial, paper)
+        # Only the call year ends at the last year, so this one may pass it.
+        trial.year = trial.year + 1
+        used = used + 1
+    return used

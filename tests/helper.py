@@ -39,10 +39,41 @@ def near(*paper):
     return [10, len(paper)] + list(paper)
 
 
+def use(*paper):
+    return [12, len(paper)] + list(paper)
+
+
+def about(i):
+    return [14, i]
+
+
+def score(*paper):
+    return [15, len(paper)] + list(paper)
+
+
+def hardest(n, d):
+    return [16, n, d]
+
+
+def withdraw(i):
+    return [17, i]
+
+
+def nth(k):
+    return [18, k]
+
+
+def lasts(n):
+    return [19, n]
+
+
 COUNT = [6]
 FIRST = [7]
 CLASH = [8]
 MUST = [9]
+TWINS = [11]
+SHOWN = [13]
+TOLD = [20]
 
 
 def items(how_many):
